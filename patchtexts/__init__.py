@@ -1,0 +1,1 @@
+"""Trees, steps and rows of steps as texts."""
