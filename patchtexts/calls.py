@@ -5,6 +5,10 @@ SHOWN = 1
 TOLD = 2
 TREE = 3
 GOES = 4
+WHY = 5
+TURNED = 6
+FILE = 7
+DIFFERENCE = 8
 
 # By a call's number: how many single numbers it has, and whether it has a row behind them.
 SINGLES = (0, 0, 0, 1, 0, 1, 0, 2, 0, 0)

@@ -30,6 +30,13 @@ class TextTooLong(Refusal):
         Refusal.__init__(self, -1)
 
 
+class NoSuchName(Refusal):
+    """No file can have the name that is asked for."""
+
+    def __init__(self):
+        Refusal.__init__(self, -2)
+
+
 class NoSuchPlace(Refusal):
     """There are not as many steps as are asked for."""
 
@@ -44,15 +51,15 @@ class StepDoesNotFit(Refusal):
         Refusal.__init__(self, -4)
 
 
+class NotWhole(Refusal):
+    """The numbers that are handed over aren't whole a step, or a tree, within the limits of texts."""
+
+    def __init__(self):
+        Refusal.__init__(self, -5)
+
+
 class NoText(Refusal):
     """No text has been loaded yet."""
 
     def __init__(self):
         Refusal.__init__(self, -8)
-
-
-class NotBuilt(Exception):
-    """A call that the program can read, but not answer yet."""
-
-    def __init__(self, which):
-        self.which = which

@@ -7,16 +7,10 @@ from patchtexts.errors import OUT_OF_ORDER
 from patchtexts.errors import TOO_HIGH
 from patchtexts.errors import TOO_MANY
 from patchtexts.limits import MOST_FILE_TOKENS
-from patchtexts.limits import MOST_HUNK_TOKENS
 from patchtexts.limits import MOST_NAME
-from patchtexts.limits import MOST_PLACE
 from patchtexts.limits import MOST_STEPS
 from patchtexts.limits import MOST_TOKEN
-from patchtexts.steps import Added
-from patchtexts.steps import Hunk
-from patchtexts.steps import Moved
-from patchtexts.steps import Removed
-from patchtexts.steps import Swap
+from patchtexts.stepreaders import READERS_BY_WORD
 from patchtexts.words import cut_into_words
 
 
@@ -69,45 +63,6 @@ class Reader:
         return tokens
 
 
-def read_hunk(reader):
-    name = reader.take_number(MOST_NAME)
-    reader.take("at")
-    place = reader.take_number(MOST_PLACE)
-    old = reader.take_row(MOST_HUNK_TOKENS)
-    new = reader.take_row(MOST_HUNK_TOKENS)
-    return Hunk(name, place, old, new)
-
-
-def read_swap(reader):
-    name = reader.take_number(MOST_NAME)
-    first = reader.take_number(MOST_TOKEN)
-    second = reader.take_number(MOST_TOKEN)
-    return Swap(name, first, second)
-
-
-def read_added(reader):
-    return Added(reader.take_number(MOST_NAME))
-
-
-def read_removed(reader):
-    return Removed(reader.take_number(MOST_NAME))
-
-
-def read_moved(reader):
-    old_name = reader.take_number(MOST_NAME)
-    new_name = reader.take_number(MOST_NAME)
-    return Moved(old_name, new_name)
-
-
-STEP_READERS = {
-    "hunk": read_hunk,
-    "swap": read_swap,
-    "add": read_added,
-    "remove": read_removed,
-    "move": read_moved,
-}
-
-
 def read_files(reader):
     """The text's tree."""
     tree = {}
@@ -124,12 +79,12 @@ def read_files(reader):
 def read_step(reader, steps_ahead):
     """The next step, without its semicolon."""
     word = reader.ahead()
-    if word.written not in STEP_READERS:
+    if word.written not in READERS_BY_WORD:
         raise Fault(OUT_OF_ORDER, word.place)
     if steps_ahead == MOST_STEPS:
         raise Fault(TOO_MANY, word.place)
     reader.take(word.written)
-    step = STEP_READERS[word.written](reader)
+    step = READERS_BY_WORD[word.written](reader)
     if step.idle():
         raise Fault(IDLE_STEP, word.place)
     return step

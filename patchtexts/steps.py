@@ -1,4 +1,4 @@
-"""The five steps: why each doesn't fit a tree, and what it makes of one.
+"""The five steps: why each doesn't fit a tree, what it makes of one, and what leads back.
 
 A tree is a dict: each file's name, and the list of its tokens. No step
 changes the tree that it is applied to, nor a list in it: it makes another.
@@ -36,6 +36,10 @@ class Step:
         """Whether it could change no tree at all, so that it is no step."""
         return False
 
+    def touched(self):
+        """How many tokens it takes and puts."""
+        return 0
+
 
 class Hunk(Step):
     """New tokens in the place of old ones."""
@@ -64,6 +68,12 @@ class Hunk(Step):
         ahead = tokens[:self.place]
         behind = tokens[self.place + len(self.old):]
         return with_file(tree, self.name, ahead + self.new + behind)
+
+    def touched(self):
+        return len(self.old) + len(self.new)
+
+    def turned(self):
+        return Hunk(self.name, self.place, self.new, self.old)
 
     def form(self):
         return " ".join(["hunk", str(self.name), "at", str(self.place), row_form(self.old), row_form(self.new)])
@@ -98,6 +108,9 @@ class Swap(Step):
     def applied(self, tree):
         return with_file(tree, self.name, [self.swapped(token) for token in tree[self.name]])
 
+    def turned(self):
+        return self
+
     def form(self):
         return " ".join(["swap", str(self.name), str(self.first), str(self.second)])
 
@@ -118,6 +131,9 @@ class Added(Step):
 
     def applied(self, tree):
         return with_file(tree, self.name, [])
+
+    def turned(self):
+        return Removed(self.name)
 
     def form(self):
         return " ".join(["add", str(self.name)])
@@ -141,6 +157,9 @@ class Removed(Step):
 
     def applied(self, tree):
         return without_file(tree, self.name)
+
+    def turned(self):
+        return Added(self.name)
 
     def form(self):
         return " ".join(["remove", str(self.name)])
@@ -168,6 +187,9 @@ class Moved(Step):
 
     def applied(self, tree):
         return with_file(without_file(tree, self.old_name), self.new_name, tree[self.old_name])
+
+    def turned(self):
+        return Moved(self.new_name, self.old_name)
 
     def form(self):
         return " ".join(["move", str(self.old_name), str(self.new_name)])

@@ -3,24 +3,33 @@
 from patchtexts.asnumbers import counted
 from patchtexts.asnumbers import steps_numbers
 from patchtexts.asnumbers import tree_numbers
+from patchtexts.calls import DIFFERENCE
+from patchtexts.calls import FILE
 from patchtexts.calls import GOES
 from patchtexts.calls import LOAD
 from patchtexts.calls import SHOWN
 from patchtexts.calls import TOLD
 from patchtexts.calls import TREE
+from patchtexts.calls import TURNED
+from patchtexts.calls import WHY
 from patchtexts.calls import read_calls
+from patchtexts.differences import difference_steps
 from patchtexts.errors import Fault
+from patchtexts.errors import NoSuchName
 from patchtexts.errors import NoSuchPlace
 from patchtexts.errors import NoText
-from patchtexts.errors import NotBuilt
 from patchtexts.errors import Refusal
 from patchtexts.errors import StepDoesNotFit
 from patchtexts.errors import TextTooLong
+from patchtexts.handed import read_handed_step
+from patchtexts.handed import read_handed_tree
 from patchtexts.limits import MOST_BYTES
+from patchtexts.limits import MOST_NAME
 from patchtexts.oneform import files_form
 from patchtexts.oneform import steps_form
 from patchtexts.reading import read_text
 from patchtexts.steps import FITS
+from patchtexts.walks import turned_round
 from patchtexts.walks import walk_through
 
 
@@ -45,9 +54,12 @@ class Holder:
         return self.text
 
 
-def shown(text):
-    form = files_form(text.tree) + steps_form(text.steps)
+def counted_bytes(form):
     return counted([ord(sign) for sign in form])
+
+
+def shown(text):
+    return counted_bytes(files_form(text.tree) + steps_form(text.steps))
 
 
 def told(text):
@@ -69,7 +81,32 @@ def goes(text):
     return [walk.fitting, walk.reason]
 
 
+def why(text, n, given):
+    tree = tree_behind(text, n)
+    step = read_handed_step(given)
+    return [step.why(tree)]
+
+
+def turned(text):
+    return counted_bytes(steps_form(turned_round(text.steps)))
+
+
+def file_behind(text, n, name):
+    tree = tree_behind(text, n)
+    if name < 0 or name > MOST_NAME:
+        raise NoSuchName()
+    if name not in tree:
+        return [0]
+    return [1] + counted(tree[name])
+
+
+def difference(text, given):
+    found = difference_steps(text.tree, read_handed_tree(given))
+    return [sum([step.touched() for step in found])] + steps_numbers(found)
+
+
 def answer_of_text(text, call):
+    """The answer to any call but load."""
     if call.which == SHOWN:
         return shown(text)
     if call.which == TOLD:
@@ -78,7 +115,16 @@ def answer_of_text(text, call):
         return tree_numbers(tree_behind(text, call.singles[0]))
     if call.which == GOES:
         return goes(text)
-    raise NotBuilt(call.which)
+    if call.which == WHY:
+        return why(text, call.singles[0], call.row)
+    if call.which == TURNED:
+        return turned(text)
+    if call.which == FILE:
+        return file_behind(text, call.singles[0], call.singles[1])
+    if call.which == DIFFERENCE:
+        return difference(text, call.row)
+    # No other call is left but steps.
+    return steps_numbers(turned_round(text.steps))
 
 
 def answer(holder, call):

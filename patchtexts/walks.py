@@ -1,4 +1,4 @@
-"""Goes through a row of steps, from a tree on."""
+"""Goes through a row of steps from a tree on, and turns one round."""
 
 from patchtexts.steps import FITS
 
@@ -22,3 +22,8 @@ def walk_through(tree, steps):
         walk.tree = step.applied(walk.tree)
         walk.fitting += 1
     return walk
+
+
+def turned_round(steps):
+    """The row of steps that leads back."""
+    return [step.turned() for step in reversed(steps)]

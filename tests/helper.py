@@ -12,6 +12,8 @@ GOES = [4]
 TURNED = [6]
 STEPS = [9]
 
+FAR = 10 ** 18
+
 
 def load(text):
     """The call load of a text, or of a list of bytes."""
@@ -35,6 +37,59 @@ def difference(other):
     return [8, len(other)] + other
 
 
+def tree_numbers(files):
+    """The tree, a dict of names and tokens, as numbers."""
+    told = [len(files)]
+    for name in sorted(files):
+        told += [name, len(files[name])] + list(files[name])
+    return told
+
+
+def tree_text(files):
+    """The tree as a text with as few blanks as can be."""
+    parts = []
+    for name in sorted(files):
+        parts.append(f"file{name}{{" + " ".join(str(token) for token in files[name]) + "}")
+    return "".join(parts)
+
+
+def steps_apart(row):
+    """The steps of a row told as numbers, each as a list of numbers."""
+    steps = []
+    at = 1
+    while at < len(row):
+        length = {1: 4, 2: 2, 3: 2, 4: 3}.get(row[at])
+        if length is None:
+            old_count = row[at + 3]
+            length = 5 + old_count + row[at + 4 + old_count]
+        steps.append(row[at:at + length])
+        at += length
+    if row[0] != len(steps) or at != len(row):
+        raise AssertionError(f"{row[0]} steps told, {len(steps)} are there: {row}")
+    return steps
+
+
+def made_of(files, steps):
+    """What hunks, files added and files removed, told as numbers, make of the tree; each has to fit."""
+    made = {name: list(files[name]) for name in files}
+    for step in steps:
+        name = step[1]
+        if step[0] == 2:
+            if name in made:
+                raise AssertionError(f"{step} doesn't fit {made}")
+            made[name] = []
+        elif step[0] == 3:
+            if made.pop(name) != []:
+                raise AssertionError(f"{step} doesn't fit {made}")
+        else:
+            place = step[2]
+            old = step[4:4 + step[3]]
+            if place > len(made[name]) or made[name][place:place + len(old)] != old:
+                raise AssertionError(f"{step} doesn't fit {made}")
+            made[name][place:place + len(old)] = step[5 + len(old):]
+    return made
+
+
 def taken_apart(found):
     """The answers, each without its count."""
     each = []
@@ -56,7 +111,11 @@ def as_shown(answer):
 class Case(unittest.TestCase):
     def ask(self, *calls):
         """The answers to the calls on one new object."""
-        found = answers([number for call in calls for number in call])
+        handed_in = [number for call in calls for number in call]
+        # The interface hands in no longer lists than these.
+        self.assertLessEqual(len(calls), 60)
+        self.assertLessEqual(len(handed_in), 17000)
+        found = answers(handed_in)
         each = taken_apart(found)
         self.assertEqual(len(each), len(calls))
         self.assertTrue(all(isinstance(number, int) and not isinstance(number, bool) for number in found))

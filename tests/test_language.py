@@ -27,6 +27,8 @@ METHODS = set("""
     join keys ljust lower lstrip partition pop remove replace reverse rfind rjust rpartition rsplit rstrip setdefault
     split splitlines startswith strip update upper values zfill bit_length __init__
 """.split())
+WALKED = ("zip", "enumerate", "reversed", "range")
+WALKERS = ("list", "tuple", "dict", "sorted", "sum", "any", "all", "enumerate", "zip", "min", "max")
 BARRED_WORDS = re.compile(r"""\b(type|typing|typing_extensions|enum|Enum|IntEnum|StrEnum|Flag|IntFlag|Generic|Protocol
     |ABC|ABCMeta|namedtuple|NamedTuple|TypedDict|TYPE_CHECKING|abstractmethod|register|mro|elements|open|input
     |version_info|with_traceback|add_note|eval|exec|globals|locals|vars|super|getattr|setattr|hasattr|delattr|id)\b
@@ -94,6 +96,58 @@ class Language(unittest.TestCase):
                     self.assertLessEqual(node.end_lineno - node.lineno + 1, 40, where)
                 if isinstance(node, ast.Constant):
                     self.assertIsInstance(node.value, (int, str, type(None)), where)
+
+    def test_the_top_of_each_file(self):
+        for path in FILES:
+            tree = ast.parse(path.read_text("ascii"))
+            self.assertIsNotNone(ast.get_docstring(tree), path.name)
+            names = []
+            for node in tree.body[1:]:
+                self.assertIsInstance(node, (ast.ImportFrom, ast.FunctionDef, ast.ClassDef, ast.Assign), path.name)
+                if isinstance(node, ast.ImportFrom):
+                    names += [alias.name for alias in node.names]
+                elif isinstance(node, ast.Assign):
+                    names.append(node.targets[0].id)
+                    self.assert_plain(node.value, names)
+                else:
+                    names.append(node.name)
+            self.assertEqual(len(names), len(set(names)), path.name)
+
+    def assert_plain(self, value, names):
+        """A plain value, or a tuple or dict of such and of names above it, that holds no list or dict itself."""
+        if isinstance(value, (ast.Tuple, ast.List, ast.Dict)):
+            parts = value.elts if not isinstance(value, ast.Dict) else value.keys + value.values
+            for part in parts:
+                self.assertNotIsInstance(part, (ast.List, ast.Dict))
+                self.assert_plain(part, names)
+        elif isinstance(value, ast.Name):
+            self.assertIn(value.id, names)
+        else:
+            self.assertIsInstance(value, ast.Constant)
+
+    def test_what_is_made_to_be_walked_is_walked_at_once(self):
+        for path in FILES:
+            walked_at_once = []
+            for node in walked(path):
+                if isinstance(node, (ast.For, ast.comprehension)):
+                    walked_at_once.append((node.iter.lineno, node.iter.col_offset))
+                elif isinstance(node, ast.Call) and isinstance(node.func, ast.Name) and node.func.id in WALKERS:
+                    walked_at_once += [(part.lineno, part.col_offset) for part in node.args[:1]]
+            for node in walked(path):
+                if isinstance(node, ast.Call) and isinstance(node.func, ast.Name) and node.func.id in WALKED:
+                    self.assertIn((node.lineno, node.col_offset), walked_at_once, path.name)
+
+    def test_parameters_and_comparisons(self):
+        for path in FILES:
+            for node in walked(path):
+                where = f"{path.name}:{getattr(node, 'lineno', 0)}"
+                if isinstance(node, ast.arguments):
+                    self.assertEqual((node.posonlyargs, node.kwonlyargs, node.vararg, node.kwarg),
+                                     ([], [], None, None), where)
+                elif isinstance(node, ast.Compare) and isinstance(node.ops[0], (ast.Is, ast.IsNot)):
+                    self.assertIsInstance(node.comparators[0], ast.Constant, where)
+                elif isinstance(node, ast.ExceptHandler):
+                    self.assertIsNotNone(node.type, where)
 
     def test_names(self):
         for path in FILES:

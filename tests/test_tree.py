@@ -1,8 +1,6 @@
 """tree and goes: steps as they fit, and why they don't."""
 
-from tests.helper import EXAMPLE, GOES, Case, tree
-
-FAR = 10 ** 18
+from tests.helper import EXAMPLE, FAR, GOES, Case, tree
 
 
 class Fitting(Case):
